@@ -1,0 +1,1 @@
+"""Cellkeep: a keeper of memory, young and old."""

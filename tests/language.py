@@ -1,0 +1,255 @@
+"""Looks for what lies outside the small part of Python that the package keeps to.
+
+It sees the rules that a form alone tells (most of L1 to L18, L20, L22, L25 and L27);
+the others are left to whoever reads the code.
+"""
+
+import ast
+import builtins
+import re
+
+PACKAGE = "cellkeep"
+
+BUILTINS = set(
+    "len range enumerate zip min max sum abs sorted reversed int str bool list tuple dict set frozenset "
+    "isinstance ord repr any all divmod Exception ValueError TypeError KeyError IndexError LookupError "
+    "ZeroDivisionError ArithmeticError OverflowError RuntimeError NotImplementedError AttributeError "
+    "StopIteration".split()
+)
+METHODS = set(
+    "append clear copy count endswith extend find get index insert isalnum isalpha isdigit islower isspace "
+    "isupper items join keys ljust lower lstrip partition pop remove replace reverse rfind rjust rpartition "
+    "rsplit rstrip setdefault split splitlines startswith strip update upper values zfill bit_length".split()
+)
+TWO_UNDERSCORES = {"__init__", "__eq__", "__repr__", "__str__", "__len__"}
+NEVER_NAMES = set(
+    "register mro elements open input version_info with_traceback add_note attrgetter breakpoint builtins "
+    "compile copyright credits delattr dir eval exec exit gc getattr globals hasattr help id importlib "
+    "license locals methodcaller os quit setattr super type vars sys format format_map".split()
+)
+NEVER_WORDS = re.compile(
+    r"\b(type|typing|typing_extensions|enum|Enum|IntEnum|StrEnum|Flag|IntFlag|Generic|Protocol|ABC|ABCMeta|"
+    r"namedtuple|NamedTuple|TypedDict|TYPE_CHECKING|abstractmethod)\b|dataclass|overload|contextmanager"
+)
+NEVER_FILES = re.compile(r"tests?|testing|test_.*|site|conftest|sitecustomize|usercustomize")
+
+NODES = (
+    ast.Module, ast.ImportFrom, ast.alias, ast.FunctionDef, ast.Lambda, ast.arguments, ast.arg, ast.ClassDef,
+    ast.Assign, ast.AugAssign, ast.If, ast.While, ast.For, ast.Return, ast.Break, ast.Continue, ast.Pass,
+    ast.Raise, ast.Try, ast.ExceptHandler, ast.Expr, ast.Constant, ast.List, ast.Tuple, ast.Dict, ast.Set,
+    ast.BinOp, ast.UnaryOp, ast.BoolOp, ast.Compare, ast.IfExp, ast.Call, ast.keyword, ast.Attribute,
+    ast.Subscript, ast.Slice, ast.ListComp, ast.comprehension, ast.JoinedStr, ast.FormattedValue, ast.Name,
+    ast.expr_context, ast.boolop, ast.operator, ast.unaryop, ast.cmpop,
+)
+
+
+def complaints(files):
+    """What is wrong in a dict from file names to their texts, a list of texts."""
+    trees = {name: ast.parse(text) for name, text in files.items()}
+    methods = METHODS | {
+        part.name for tree in trees.values() for node in ast.walk(tree)
+        if isinstance(node, ast.ClassDef) for part in node.body if isinstance(part, ast.FunctionDef)
+    }
+    found = []
+    for name, text in files.items():
+        told = of_text(name, text) + of_top(trees[name]) + of_imports(trees[name], trees)
+        for node in ast.walk(trees[name]):
+            told += of_node(node, methods)
+        found += [f"{name}: {line}" for line in told]
+    return found + of_circles(trees)
+
+
+def of_text(name, text):
+    told = []
+    if not re.fullmatch(r"[a-z][a-z0-9_]*\.py|__init__\.py|__main__\.py", name):
+        told.append("L14: file name")
+    stem = name[:-len(".py")]
+    if NEVER_FILES.fullmatch(stem) or stem in vars(builtins):
+        told.append("L14: file name is taken")
+    if re.search(r"[^ -~\n]", text):
+        told.append("L14: sign")
+    lines = text.splitlines()
+    if len(lines) > 400:
+        told.append("L10: file too long")
+    told += [f"L10: line {at} too long" for at, line in enumerate(lines, 1) if len(line) > 120]
+    told += [f"L17: word {match.group()}" for match in NEVER_WORDS.finditer(text)]
+    return told
+
+
+def is_text(node):
+    return isinstance(node, ast.Expr) and isinstance(node.value, ast.Constant) and isinstance(node.value.value, str)
+
+
+def is_plain(node):
+    if isinstance(node, (ast.List, ast.Tuple)):
+        return all(is_plain(part) for part in node.elts)
+    if isinstance(node, ast.Dict):
+        return all(is_plain(part) for part in node.keys + node.values)
+    if isinstance(node, ast.UnaryOp):
+        return isinstance(node.op, ast.USub) and isinstance(node.operand, ast.Constant)
+    return isinstance(node, (ast.Constant, ast.Name))
+
+
+def bound_at_top(tree):
+    bound = []
+    for node in tree.body:
+        if isinstance(node, (ast.FunctionDef, ast.ClassDef)):
+            bound.append(node.name)
+        elif isinstance(node, ast.Assign):
+            bound += [target.id for target in node.targets if isinstance(target, ast.Name)]
+    return bound
+
+
+def of_top(tree):
+    told = []
+    for at, node in enumerate(tree.body):
+        if isinstance(node, (ast.ImportFrom, ast.FunctionDef, ast.ClassDef)) or (at == 0 and is_text(node)):
+            continue
+        named = isinstance(node, ast.Assign) and isinstance(node.targets[0], ast.Name)
+        if not named or not is_plain(node.value):
+            told.append(f"L3: line {node.lineno}")
+    bound = bound_at_top(tree)
+    told += [f"L15: {name} bound twice" for name in sorted(set(bound)) if bound.count(name) > 1]
+    return told
+
+
+def drawn(tree):
+    return [node for node in ast.walk(tree) if isinstance(node, ast.ImportFrom) and node.module != "__future__"]
+
+
+def of_imports(tree, trees):
+    told = []
+    for node in drawn(tree):
+        parts = (node.module or "").split(".")
+        source = parts[-1] + ".py"
+        if node.level or len(parts) != 2 or parts[0] != PACKAGE or source not in trees:
+            told.append(f"L2: line {node.lineno}")
+        elif node not in tree.body:
+            told.append(f"L2: line {node.lineno} not at the top")
+        else:
+            bound = bound_at_top(trees[source])
+            told += [f"L16: {alias.name} is not of {source}" for alias in node.names if alias.name not in bound]
+    return told
+
+
+def of_circles(trees):
+    draws = {name: {"__init__.py"} for name in trees}
+    for name, tree in trees.items():
+        draws[name] |= {(node.module or "").split(".")[-1] + ".py" for node in drawn(tree)}
+    draws["__init__.py"] = draws.get("__init__.py", set()) - {"__init__.py"}
+    left = dict(draws)
+    while True:
+        free = [name for name in left if not draws[name] & set(left)]
+        if not free:
+            return [f"{name}: L16: draws in a circle" for name in left]
+        for name in free:
+            left.pop(name)
+
+
+def of_node(node, methods):
+    line = f"line {getattr(node, 'lineno', 0)}"
+    if not isinstance(node, NODES):
+        return [f"L6, L7: {line} {node.__class__.__name__}"]
+    told = []
+    if isinstance(node, (ast.FunctionDef, ast.Lambda)):
+        told += of_def(node, line)
+    elif isinstance(node, ast.ClassDef):
+        told += of_class(node, line)
+    elif isinstance(node, (ast.Name, ast.arg)):
+        told += of_name(node.id if isinstance(node, ast.Name) else node.arg, node, line)
+    elif isinstance(node, ast.Attribute):
+        if node.attr in NEVER_NAMES or (node.attr.startswith("_") and node.attr not in TWO_UNDERSCORES):
+            told.append(f"L12, L17: {line} {node.attr}")
+    elif isinstance(node, ast.Call) and isinstance(node.func, ast.Attribute):
+        if node.func.attr not in methods | TWO_UNDERSCORES:
+            told.append(f"L25: {line} {node.func.attr}")
+    else:
+        told += of_rest(node, line)
+    return told
+
+
+def of_def(node, line):
+    told = []
+    handed = node.args
+    if handed.vararg or handed.kwarg or handed.kwonlyargs or handed.posonlyargs:
+        told.append(f"L4: {line} parameters")
+    if isinstance(node, ast.FunctionDef):
+        if node.decorator_list:
+            told.append(f"L4: {line} decorator")
+        if node.end_lineno - node.lineno >= 40:
+            told.append(f"L10: {line} function too long")
+        if node.name not in TWO_UNDERSCORES and (node.name.startswith("_") or node.name in NEVER_NAMES):
+            told.append(f"L12: {line} {node.name}")
+    return told
+
+
+def of_class(node, line):
+    told = []
+    if node.decorator_list or node.keywords or len(node.bases) > 1 or node.col_offset:
+        told.append(f"L5, L15: {line} class")
+    if not all(isinstance(part, (ast.FunctionDef, ast.Pass)) or is_text(part) for part in node.body):
+        told.append(f"L5: {line} value in a class")
+    return told
+
+
+def of_name(name, node, line):
+    own = isinstance(node, ast.Name) and isinstance(node.ctx, ast.Load)
+    if name.startswith("_") or not name.isascii() or name in NEVER_NAMES:
+        return [f"L12, L17: {line} {name}"]
+    if name in vars(builtins) and (name not in BUILTINS or not own):
+        return [f"L8, L15: {line} {name}"]
+    return []
+
+
+def of_rest(node, line):
+    told = []
+    if isinstance(node, ast.Constant):
+        if isinstance(node.value, (float, complex, bytes)):
+            told.append(f"L7: {line} value")
+        if isinstance(node.value, str) and "%" in node.value:
+            told.append(f"L27: {line} sign in a text")
+    elif isinstance(node, (ast.Assign, ast.For, ast.While)):
+        if len(getattr(node, "targets", [1])) > 1 or getattr(node, "orelse", []):
+            told.append(f"L6: {line}")
+    elif isinstance(node, ast.Try):
+        if node.finalbody:
+            told.append(f"L6: {line} finally")
+    elif isinstance(node, ast.ExceptHandler):
+        if node.type is None or {"Exception", "TypeError"} & {part.id for part in ast.walk(node.type)
+                                                               if isinstance(part, ast.Name)}:
+            told.append(f"L19: {line} except")
+    elif isinstance(node, ast.Raise):
+        if not isinstance(node.exc, ast.Call):
+            told.append(f"L19: {line} raise")
+    elif isinstance(node, ast.Compare):
+        told += of_compare(node, line)
+    elif isinstance(node, (ast.BinOp, ast.AugAssign)):
+        told += of_sum(node, line)
+    elif isinstance(node, ast.comprehension):
+        if len(node.ifs) > 1:
+            told.append("L7: comprehension")
+    elif isinstance(node, ast.ListComp):
+        if len(node.generators) > 1:
+            told.append(f"L7: {line} comprehension")
+    return told
+
+
+def of_compare(node, line):
+    sides = [node.left] + node.comparators
+    for at, sign in enumerate(node.ops):
+        if isinstance(sign, (ast.Is, ast.IsNot)):
+            pair = [side for side in sides[at:at + 2] if isinstance(side, ast.Constant)]
+            if not [side for side in pair if side.value is None or isinstance(side.value, bool)]:
+                return [f"L20: {line} is"]
+    return []
+
+
+def of_sum(node, line):
+    if isinstance(node.op, (ast.Div, ast.MatMult)):
+        return [f"L7: {line} sign"]
+    if isinstance(node.op, ast.Pow):
+        power = getattr(node, "right", getattr(node, "value", None))
+        written = isinstance(power, ast.Constant) and isinstance(power.value, int)
+        if not written or not 0 <= power.value <= 64:
+            return [f"L27: {line} power"]
+    return []
