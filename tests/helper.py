@@ -18,6 +18,9 @@ class EqualToAll:
         return 0
 
 
+# Too great for Python to show by figures, so not for a subTest's or a failure's words.
+HUGE = 10 ** 5000
+
 NOT_WHOLE = [
     None, True, False, 0.0, 1.0, 2.5, float("nan"), float("inf"), 1j, "", "1", b"1",
     [], [1], (), (1,), {}, {1: 1}, set(), {1}, frozenset(), range(2),

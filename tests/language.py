@@ -1,6 +1,6 @@
 """Looks for what lies outside the small part of Python that the package keeps to.
 
-It sees the rules that a form alone tells (most of L1 to L18, L20, L22, L25 and L27);
+It sees the rules that a form alone tells (most of L1 to L18, L20, L22 to L27);
 the others are left to whoever reads the code.
 """
 
@@ -33,6 +33,13 @@ NEVER_WORDS = re.compile(
 )
 NEVER_FILES = re.compile(r"tests?|testing|test_.*|site|conftest|sitecustomize|usercustomize")
 
+# What Python's own values have: an own method or value bears such a name only where L26 lets it.
+PYTHONS_OWN = {name for thing in ["", 0, [], (), {}, set(), b""] for name in dir(thing)}
+FREE_VALUES = set("count index title find get join lower upper split strip copy add".split())
+WALKED = {"zip", "enumerate", "reversed", "range"}
+WALKED_METHODS = {"items", "keys", "values"}
+WALKERS = set("list tuple dict sorted sum any all enumerate zip min max".split())
+
 NODES = (
     ast.Module, ast.ImportFrom, ast.alias, ast.FunctionDef, ast.Lambda, ast.arguments, ast.arg, ast.ClassDef,
     ast.Assign, ast.AugAssign, ast.If, ast.While, ast.For, ast.Return, ast.Break, ast.Continue, ast.Pass,
@@ -50,9 +57,10 @@ def complaints(files):
         part.name for tree in trees.values() for node in ast.walk(tree)
         if isinstance(node, ast.ClassDef) for part in node.body if isinstance(part, ast.FunctionDef)
     }
-    found = []
+    found = of_classes(trees)
     for name, text in files.items():
         told = of_text(name, text) + of_top(trees[name]) + of_imports(trees[name], trees)
+        told += of_locals(trees[name]) + of_walked(trees[name]) + of_sets(trees[name])
         for node in ast.walk(trees[name]):
             told += of_node(node, methods)
         found += [f"{name}: {line}" for line in told]
@@ -144,6 +152,71 @@ def of_circles(trees):
             return [f"{name}: L16: draws in a circle" for name in left]
         for name in free:
             left.pop(name)
+
+
+def of_classes(trees):
+    """L18: no name is a method here and a value there; L26: what both may be called."""
+    methods, values, told = set(), set(), []
+    for tree in trees.values():
+        for node in ast.walk(tree):
+            if isinstance(node, ast.ClassDef):
+                own = [part.name for part in node.body if isinstance(part, ast.FunctionDef)]
+                told += [f"L18: method {name} twice" for name in sorted(set(own)) if own.count(name) > 1]
+                methods |= set(own)
+            elif isinstance(node, ast.Attribute) and isinstance(node.ctx, ast.Store):
+                values.add(node.attr)
+    told += [f"L18: {name} is a method and a value" for name in sorted(methods & values)]
+    taken = methods & PYTHONS_OWN - METHODS - TWO_UNDERSCORES - {"add", "discard"}
+    taken |= values & PYTHONS_OWN - FREE_VALUES
+    return told + [f"L26: {name}" for name in sorted(taken)]
+
+
+def of_locals(tree):
+    """L15: no parameter and no local is called like a class or an import of its file."""
+    taken = {alias.asname or alias.name for node in drawn(tree) for alias in node.names}
+    taken |= {node.name for node in ast.walk(tree) if isinstance(node, ast.ClassDef)}
+    bound = [(node.arg, node) for node in ast.walk(tree) if isinstance(node, ast.arg)]
+    bound += [(node.id, node) for node in ast.walk(tree)
+              if isinstance(node, ast.Name) and isinstance(node.ctx, ast.Store)]
+    return [f"L15: line {node.lineno} {name}" for name, node in bound if name in taken]
+
+
+def called(node):
+    return node.func.id if isinstance(node, ast.Call) and isinstance(node.func, ast.Name) else None
+
+
+def of_walked(tree):
+    """L23: range and its like are walked on the spot."""
+    walked = set()
+    for node in ast.walk(tree):
+        if isinstance(node, (ast.For, ast.comprehension)):
+            walked.add(node.iter)
+        elif called(node) in WALKERS and node.args:
+            walked |= set(node.args if called(node) == "zip" else node.args[:1])
+        elif isinstance(node, ast.Call) and isinstance(node.func, ast.Attribute) and node.func.attr == "join":
+            walked |= set(node.args)
+    return [
+        f"L23: line {node.lineno}" for node in ast.walk(tree)
+        if isinstance(node, ast.Call) and node not in walked
+        and (called(node) in WALKED or isinstance(node.func, ast.Attribute) and node.func.attr in WALKED_METHODS)
+    ]
+
+
+def of_sets(tree):
+    """L24: a set is asked on the spot, not kept and not walked."""
+    asked = set()
+    for node in ast.walk(tree):
+        if isinstance(node, ast.Compare):
+            asked |= {node.left, *node.comparators}
+        elif called(node) in ("sorted", "len"):
+            asked |= set(node.args)
+    for node in ast.walk(tree):
+        if isinstance(node, ast.BinOp) and node in asked:
+            asked |= {node.left, node.right}
+    return [
+        f"L24: line {node.lineno}" for node in ast.walk(tree)
+        if (isinstance(node, ast.Set) or called(node) in ("set", "frozenset")) and node not in asked
+    ]
 
 
 def of_node(node, methods):

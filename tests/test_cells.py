@@ -5,9 +5,8 @@ from cellkeep.cells import (
 )
 from cellkeep.errors import BadCount, NoCell, NoPlace, NoSlot
 from cellkeep.memory import Memory
-from tests.helper import NOT_WHOLE, KeepTest, memory_of, words_in
+from tests.helper import HUGE, NOT_WHOLE, KeepTest, memory_of, words_in
 
-HUGE = 10 ** 5000
 NO_PLACES = [-1, -2, -20, 20, 21, 9999, 10000, HUGE, -HUGE] + NOT_WHOLE
 
 # Each deed that wants a cell that was not sent on, with things for what it takes besides:

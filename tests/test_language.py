@@ -50,6 +50,19 @@ OUTSIDE = [
     "class C:\n    kept = 1\n",
     "class C(ValueError, KeyError):\n    pass\n",
     "def f(a):\n    class C:\n        pass\n    return C()\n",
+    "class C:\n    def f(self):\n        self.f = 1\n",
+    "class C:\n    def f(self):\n        self.g = 1\n\n\nclass D:\n    def g(self):\n        return 1\n",
+    "class C:\n    def f(self):\n        self.values = 1\n",
+    "class C:\n    def f(self):\n        return 1\n\n    def f(self):\n        return 2\n",
+    "class C:\n    def encode(self):\n        return 1\n",
+    "from cellkeep.words import kind\n\n\ndef f(kind):\n    return kind\n",
+    "from cellkeep.words import kind\n\n\ndef f(a):\n    for kind in a:\n        return kind\n",
+    "class C:\n    pass\n\n\ndef f(a):\n    C = a\n    return C\n",
+    "def f(a):\n    b = range(a)\n    return b\n",
+    "def f(a):\n    return a.items()\n",
+    "def f(a):\n    return enumerate(a)\n",
+    "def f(a):\n    b = set(a)\n    return b\n",
+    "def f(a):\n    for b in set(a):\n        return b\n",
     "# the type of a word\n",
     "# caf\u00e9\n",
     "def f(a):\n\treturn a\n",
@@ -64,7 +77,9 @@ INSIDE = (
     'class C(ValueError):\n    """Why."""\n\n    def __init__(self, a):\n        ValueError.__init__(self)\n'
     '        self.a = a\n\n    def told(self):\n        return self.a\n\n\n'
     'def f(a, b=None):\n    if b is None or kind(a) == "place":\n        raise C(10 ** 12)\n'
-    '    return [c.told() for c in sorted(a) if c % 2 == 1]\n'
+    '    return [c.told() for c in sorted(a) if c % 2 == 1]\n\n\n'
+    'def g(a):\n    for at, b in enumerate(zip(range(9), a.items())):\n        if at in set(b):\n'
+    '            return list(range(at))\n    return len(set(a) - set(a.get(1)))\n'
 )
 
 

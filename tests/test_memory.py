@@ -2,10 +2,9 @@
 
 from cellkeep.errors import BadCount, BadWord, NoPlace
 from cellkeep.memory import Memory
-from tests.helper import NOT_WHOLE, KeepTest, memory_of, words_in
+from tests.helper import HUGE, NOT_WHOLE, KeepTest, memory_of, words_in
 
 NO_WORDS = [-3, 20001, 2 * 10 ** 12 + 1, 2 * 10 ** 12 + 2, -2 * 10 ** 12 - 2]
-HUGE = 10 ** 5000
 
 
 class SizeTest(KeepTest):

@@ -2,10 +2,9 @@
 
 from cellkeep.errors import BadNumber, BadWord, NoPlace
 from cellkeep.words import NOTHING, kind, number_word, place_word, worth
-from tests.helper import NOT_WHOLE, KeepTest
+from tests.helper import HUGE, NOT_WHOLE, KeepTest
 
 MOST = 10 ** 12
-HUGE = 10 ** 5000
 
 
 class NumberWordTest(KeepTest):
