@@ -1,7 +1,6 @@
 """A book: the places of slots of old cells in which a young cell stands."""
 
-from cellkeep.errors import NoPlace
-from cellkeep.words import is_place
+from cellkeep.words import want_place
 
 
 class Book:
@@ -10,7 +9,7 @@ class Book:
         self.written = {}
 
     def write(self, place):
-        self.want_place(place)
+        want_place(place)
         self.written[place] = True
 
     def rub(self, place):
@@ -18,7 +17,7 @@ class Book:
             self.written.pop(place)
 
     def has(self, place):
-        self.want_place(place)
+        want_place(place)
         return place in self.written
 
     def places(self):
@@ -26,7 +25,3 @@ class Book:
 
     def clear(self):
         self.written = {}
-
-    def want_place(self, place):
-        if not is_place(place):
-            raise NoPlace("no place that a word can tell")

@@ -16,15 +16,23 @@ def is_place(thing):
     return is_within(thing, 0, MOST_PLACE)
 
 
-def number_word(n):
-    if not is_number(n):
+def want_number(thing):
+    if not is_number(thing):
         raise BadNumber("no number that a word can tell")
+
+
+def want_place(thing):
+    if not is_place(thing):
+        raise NoPlace("no place that a word can tell")
+
+
+def number_word(n):
+    want_number(n)
     return 2 * n
 
 
 def place_word(at):
-    if not is_place(at):
-        raise NoPlace("no place that a word can tell")
+    want_place(at)
     return 2 * at + 1
 
 

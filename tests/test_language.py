@@ -75,9 +75,9 @@ OUTSIDE = [
 INSIDE = (
     '"""A file."""\n\nfrom cellkeep.words import kind\n\nMOST = 8\nLEAST = -1\n\n\n'
     'class C(ValueError):\n    """Why."""\n\n    def __init__(self, a):\n        ValueError.__init__(self)\n'
-    '        self.a = a\n\n    def told(self):\n        return self.a\n\n\n'
+    '        self.a = a\n\n    def probed(self):\n        return self.a\n\n\n'
     'def f(a, b=None):\n    if b is None or kind(a) == "place":\n        raise C(10 ** 12)\n'
-    '    return [c.told() for c in sorted(a) if c % 2 == 1]\n\n\n'
+    '    return [c.probed() for c in sorted(a) if c % 2 == 1]\n\n\n'
     'def g(a):\n    for at, b in enumerate(zip(range(9), a.items())):\n        if at in set(b):\n'
     '            return list(range(at))\n    return len(set(a) - set(a.get(1)))\n'
 )
