@@ -44,9 +44,13 @@ def slot_place(memory, at, slot):
     return at + 1 + slot
 
 
-def children(memory, at):
+def slot_places(memory, at):
     slots = slots_of(memory, at)
-    words = [memory.read(place) for place in range(at + 1, at + 1 + slots)]
+    return list(range(at + 1, at + 1 + slots))
+
+
+def children(memory, at):
+    words = [memory.read(place) for place in slot_places(memory, at)]
     return [worth(word) for word in words if kind(word) == "place"]
 
 

@@ -5,7 +5,11 @@ import unittest
 from decimal import Decimal
 from fractions import Fraction
 
+from cellkeep.areas import Areas
+from cellkeep.cells import age_of, aged, children, slot_place, slots_of
 from cellkeep.memory import Memory
+from cellkeep.roots import Roots
+from cellkeep.words import NOTHING, kind, place_word, worth
 
 
 class EqualToAll:
@@ -61,3 +65,92 @@ class KeepTest(unittest.TestCase):
         """Equal, and neither True nor False nor a fraction."""
         self.assertEqual(thing, wanted)
         self.assertEqual(thing.__class__, int)
+
+
+class World:
+    """Areas and roots that fit one another ([8]), built cell by cell."""
+
+    def __init__(self, hands=3, old_words=60, young_words=30):
+        self.areas = Areas(old_words, young_words)
+        self.memory = self.areas.memory
+        self.roots = Roots(hands)
+
+    def old(self, *words):
+        return self.filled(self.areas.lay_old(len(words)), words)
+
+    def young(self, *words, age=0):
+        at = self.areas.lay_young(len(words))
+        aged(self.memory, at, age)
+        return self.filled(at, words)
+
+    def filled(self, at, words):
+        for slot, word in enumerate(words):
+            self.put(at, slot, word)
+        return at
+
+    def put(self, at, slot, word):
+        place = slot_place(self.memory, at, slot)
+        self.memory.write(place, word)
+        self.roots.book.rub(place)
+        if self.areas.old.has(at) and self.is_of_young(word):
+            self.roots.book.write(place)
+
+    def hold(self, *words):
+        """All hands hold these words, by hands, and nothing behind them."""
+        for hand in range(len(self.roots.hands.row())):
+            self.roots.hands.put(hand, words[hand] if hand < len(words) else NOTHING)
+
+    def is_of_young(self, word):
+        return kind(word) == "place" and self.areas.young.has(worth(word))
+
+    def cell(self, at):
+        """Its age and the words in its slots."""
+        slots = slots_of(self.memory, at)
+        return (age_of(self.memory, at), [self.memory.read(at + 1 + slot) for slot in range(slots)])
+
+    def cells(self, space):
+        """All cells of a space, by their places."""
+        return {at: self.cell(at) for at in space.cells(self.memory)}
+
+    def tops(self):
+        return [(space.begin, space.end, space.top)
+                for space in [self.areas.old, self.areas.young, self.areas.spare]]
+
+    def tables(self):
+        roots = self.roots
+        return (roots.hands.row(), roots.book.places(), roots.weaks.names(),
+                roots.lasts.pending(), roots.lasts.said())
+
+    def state(self):
+        return (words_in(self.memory), self.tops(), self.tables())
+
+    def standing(self):
+        """All places that hands, slots, names and tickets tell."""
+        cells = self.areas.old.cells(self.memory) + self.areas.young.cells(self.memory)
+        places = self.roots.starts() + [child for at in cells for child in children(self.memory, at)]
+        places += [at for name, at in self.roots.weaks.names()]
+        return places + [at for ticket, at, number in self.roots.lasts.pending()]
+
+    def wanted_book(self):
+        return [
+            at + 1 + slot
+            for at, (age, words) in self.cells(self.areas.old).items()
+            for slot, word in enumerate(words) if self.is_of_young(word)
+        ]
+
+
+def places(*ats):
+    return [place_word(at) for at in ats]
+
+
+class CollectTest(KeepTest):
+
+    def assert_fits(self, world):
+        """All that [8] tells."""
+        areas = world.areas
+        old, young = areas.old.cells(world.memory), areas.young.cells(world.memory)
+        self.assertEqual([at for at in world.standing() if at not in old + young], [])
+        self.assertEqual((areas.spare.used(), areas.spare.top), (0, areas.spare.begin))
+        self.assertEqual([at for at in old if age_of(world.memory, at) != 2], [])
+        self.assertEqual([at for at in young if age_of(world.memory, at) not in (0, 1)], [])
+        self.assertEqual(world.roots.book.places(), world.wanted_book())
