@@ -1,6 +1,6 @@
 """Areas: a memory with a space for old cells and two halves for young ones."""
 
-from cellkeep.cells import MOST_AGE, MOST_SLOTS, aged, lay
+from cellkeep.cells import MOST_AGE, aged, lay, want_slots
 from cellkeep.errors import BadCount
 from cellkeep.memory import Memory
 from cellkeep.spaces import Space
@@ -46,8 +46,7 @@ class Areas:
 
     def lay_into(self, space, slots, age):
         # Looked at ahead of take, which would else refuse some of these counts with NoRoom.
-        if not is_within(slots, 0, MOST_SLOTS):
-            raise BadCount("no count of slots")
+        want_slots(slots)
         at = space.take(slots + 1)
         lay(self.memory, at, slots)
         aged(self.memory, at, age)

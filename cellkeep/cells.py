@@ -8,9 +8,13 @@ MOST_SLOTS = 8
 MOST_AGE = 2
 
 
-def lay(memory, at, slots):
+def want_slots(slots):
     if not is_within(slots, 0, MOST_SLOTS):
         raise BadCount("no count of slots")
+
+
+def lay(memory, at, slots):
+    want_slots(slots)
     if not fits(memory, at, slots):
         raise NoPlace("no place in this memory for such a cell")
     memory.write(at, head_word(slots, 0))

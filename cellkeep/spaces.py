@@ -18,6 +18,9 @@ class Space:
     def used(self):
         return self.top - self.begin
 
+    def extent(self):
+        return self.end - self.begin
+
     def has(self, at):
         return is_within(at, self.begin, self.top - 1)
 

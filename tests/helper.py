@@ -7,6 +7,7 @@ from fractions import Fraction
 
 from cellkeep.areas import Areas
 from cellkeep.cells import age_of, aged, children, slot_place, slots_of
+from cellkeep.errors import BadCount
 from cellkeep.memory import Memory
 from cellkeep.roots import Roots
 from cellkeep.words import NOTHING, kind, place_word, worth
@@ -30,6 +31,13 @@ NOT_WHOLE = [
     [], [1], (), (1,), {}, {1: 1}, set(), {1}, frozenset(), range(2),
     object(), int, len, EqualToAll(), Fraction(1), Decimal(1), Memory(1),
 ]
+
+MOST_NUMBER = 10 ** 12
+NO_NUMBERS = [MOST_NUMBER + 1, -MOST_NUMBER - 1, HUGE, -HUGE] + NOT_WHOLE
+NO_WORDS = [
+    -3, 20001, 2 * MOST_NUMBER + 1, 2 * MOST_NUMBER + 2, -2 * MOST_NUMBER - 2, 1 - 2 * MOST_NUMBER, HUGE, -HUGE,
+] + NOT_WHOLE
+NO_COUNTS_OF_SLOTS = [-1, -2, 9, 10, HUGE, -HUGE] + NOT_WHOLE
 
 
 def words_in(memory):
@@ -61,6 +69,16 @@ class KeepTest(unittest.TestCase):
     def assert_parameters(self, call, names):
         self.assertEqual(list(inspect.signature(call).parameters), names)
 
+    def assert_bounds_refused(self, call, *args):
+        """Counts of hands, old words and young words that are none, refused ahead of all behind them."""
+        for hands in [0, 7, -1, HUGE, -HUGE] + NOT_WHOLE:
+            self.assert_refused(BadCount, call, hands, 60, 30, *args)
+        for old in [3, 2001, 0, -4, HUGE, -HUGE] + NOT_WHOLE:
+            self.assert_refused(BadCount, call, 3, old, 30, *args)
+        for young in [1, 501, 0, -2, HUGE, -HUGE] + NOT_WHOLE:
+            self.assert_refused(BadCount, call, 3, 60, young, *args)
+        self.assert_refused(BadCount, call, 0, 3, 1, *args)
+
     def assert_whole(self, thing, wanted):
         """Equal, and neither True nor False nor a fraction."""
         self.assertEqual(thing, wanted)
@@ -74,6 +92,13 @@ class World:
         self.areas = Areas(old_words, young_words)
         self.memory = self.areas.memory
         self.roots = Roots(hands)
+
+    @classmethod
+    def of(cls, heap):
+        """The world of a heap's own areas and roots."""
+        world = cls()
+        world.areas, world.memory, world.roots = heap.areas, heap.areas.memory, heap.roots
+        return world
 
     def old(self, *words):
         return self.filled(self.areas.lay_old(len(words)), words)

@@ -5,9 +5,7 @@ from cellkeep.cells import age_of, slots_of
 from cellkeep.errors import BadCount, NoRoom
 from cellkeep.memory import Memory
 from cellkeep.spaces import Space
-from tests.helper import HUGE, NOT_WHOLE, KeepTest, words_in
-
-NO_SLOTS = [-1, -2, 9, 10, HUGE, -HUGE] + NOT_WHOLE
+from tests.helper import HUGE, NO_COUNTS_OF_SLOTS, NOT_WHOLE, KeepTest, words_in
 
 
 def bounds(space):
@@ -211,7 +209,7 @@ class LayTest(KeepTest):
     def test_no_count(self):
         areas = Areas(20, 12)
         fill(areas)
-        for slots in NO_SLOTS:
+        for slots in NO_COUNTS_OF_SLOTS:
             self.assert_areas_refuse(areas, BadCount, areas.lay_old, slots)
             self.assert_areas_refuse(areas, BadCount, areas.lay_young, slots)
 
@@ -219,6 +217,6 @@ class LayTest(KeepTest):
         areas = Areas(4, 2)
         areas.lay_old(3)
         areas.lay_young(1)
-        for slots in NO_SLOTS:
+        for slots in NO_COUNTS_OF_SLOTS:
             self.assert_areas_refuse(areas, BadCount, areas.lay_old, slots)
             self.assert_areas_refuse(areas, BadCount, areas.lay_young, slots)

@@ -2,11 +2,9 @@
 
 from cellkeep.errors import BadCount, BadWord, NoHand
 from cellkeep.hands import Hands
-from tests.helper import HUGE, NOT_WHOLE, KeepTest
+from tests.helper import HUGE, MOST_NUMBER, NO_WORDS, NOT_WHOLE, KeepTest
 
-MOST = 10 ** 12
-WORDS = [0, 2, -2, 2 * MOST, -2 * MOST, 1, 3, 19999, -1]
-NO_WORDS = [-3, 20001, 2 * MOST + 1, 2 * MOST + 2, -2 * MOST - 2, 1 - 2 * MOST, HUGE, -HUGE] + NOT_WHOLE
+WORDS = [0, 2, -2, 2 * MOST_NUMBER, -2 * MOST_NUMBER, 1, 3, 19999, -1]
 
 
 class HandsTest(KeepTest):

@@ -2,11 +2,10 @@
 
 from cellkeep.errors import BadNumber, NoName, NoPlace
 from cellkeep.lasts import Lasts
-from tests.helper import HUGE, NOT_WHOLE, KeepTest
+from tests.helper import HUGE, NO_NUMBERS, NOT_WHOLE, KeepTest
+from tests.helper import MOST_NUMBER as MOST
 
-MOST = 10 ** 12
 NO_PLACES = [-1, 10000, -2, 10001, HUGE, -HUGE] + NOT_WHOLE
-NO_NUMBERS = [MOST + 1, -MOST - 1, HUGE, -HUGE] + NOT_WHOLE
 
 
 def lasts_of(pairs):
