@@ -35,6 +35,18 @@ class Lasts:
     def said(self):
         return list(self.spoken)
 
+    def refill(self, pending, said):
+        """Stands behind it as one that has these pending tickets and said these numbers."""
+        waiting = {}
+        for ticket, at, number in pending:
+            want_place(at)
+            want_number(number)
+            waiting[ticket] = (at, number)
+        for number in said:
+            want_number(number)
+        self.waiting = waiting
+        self.spoken = list(said)
+
     def want_pending(self, ticket):
         if not is_whole(ticket) or ticket not in self.waiting:
             raise NoName("there is no such pending ticket")

@@ -22,9 +22,17 @@ def deed_of(line):
     word = parts[0]
     if word not in NUMBERS_BEHIND or len(parts) - 1 != NUMBERS_BEHIND[word]:
         raise NoDeed("no deed is written so")
-    if not all([is_written(part) for part in parts[1:]]):
+    numbers = numbers_of(parts[1:])
+    if numbers is None:
         raise NoDeed("a number of the deed is not written as one")
-    return tuple([word] + [int(part) for part in parts[1:]])
+    return tuple([word] + numbers)
+
+
+def numbers_of(texts):
+    """The numbers that texts write; None where one of them writes none."""
+    if not all([is_written(text) for text in texts]):
+        return None
+    return [int(text) for text in texts]
 
 
 def is_written(text):

@@ -33,6 +33,10 @@ class Weak:
     def names(self):
         return [(name, at) for name, at in enumerate(self.told) if at is not None]
 
+    def row(self):
+        """The places of all names, by their numbers, None of one that is gone."""
+        return list(self.told)
+
     def want_standing(self, name):
         if self.at(name) is None:
             raise NoName("the name is gone")

@@ -9,6 +9,7 @@ from cellkeep.areas import Areas
 from cellkeep.cells import age_of, aged, children, slot_place, slots_of
 from cellkeep.errors import BadCount
 from cellkeep.memory import Memory
+from cellkeep.notes import line_of
 from cellkeep.roots import Roots
 from cellkeep.words import NOTHING, kind, place_word, worth
 
@@ -70,14 +71,17 @@ class KeepTest(unittest.TestCase):
         self.assertEqual(list(inspect.signature(call).parameters), names)
 
     def assert_bounds_refused(self, call, *args):
-        """Counts of hands, old words and young words that are none, refused ahead of all behind them."""
+        """Counts of hands, old words and young words that are none are refused."""
         for hands in [0, 7, -1, HUGE, -HUGE] + NOT_WHOLE:
             self.assert_refused(BadCount, call, hands, 60, 30, *args)
-        for old in [3, 2001, 0, -4, HUGE, -HUGE] + NOT_WHOLE:
-            self.assert_refused(BadCount, call, 3, old, 30, *args)
-        for young in [1, 501, 0, -2, HUGE, -HUGE] + NOT_WHOLE:
-            self.assert_refused(BadCount, call, 3, 60, young, *args)
         self.assert_refused(BadCount, call, 0, 3, 1, *args)
+        self.assert_words_refused(lambda old, young: call(3, old, young, *args))
+
+    def assert_words_refused(self, call):
+        for old in [3, 2001, 0, -4, HUGE, -HUGE] + NOT_WHOLE:
+            self.assert_refused(BadCount, call, old, 30)
+        for young in [1, 501, 0, -2, HUGE, -HUGE] + NOT_WHOLE:
+            self.assert_refused(BadCount, call, 60, young)
 
     def assert_whole(self, thing, wanted):
         """Equal, and neither True nor False nor a fraction."""
@@ -166,6 +170,20 @@ class World:
 
 def places(*ats):
     return [place_word(at) for at in ats]
+
+
+def some_lines(rng, hands):
+    """Lines of deeds, most of which are done."""
+    parts = {
+        "make": "hs", "keep": "hn", "share": "hh", "drop": "h", "read": "h", "take": "hhs", "put": "hsh",
+        "name": "h", "find": "nh", "last": "hn", "young": "", "all": "", "said": "",
+    }
+    most = {"h": hands, "s": 4, "n": 6}
+    lines = []
+    for many in range(120):
+        word = rng.choice(list(parts) + ["make", "put", "take", "put"])
+        lines.append(line_of((word,) + tuple(rng.randint(0, most[part]) for part in parts[word])))
+    return lines
 
 
 class CollectTest(KeepTest):

@@ -39,6 +39,10 @@ FREE_VALUES = set("count index title find get join lower upper split strip copy 
 WALKED = {"zip", "enumerate", "reversed", "range"}
 WALKED_METHODS = {"items", "keys", "values"}
 WALKERS = set("list tuple dict sorted sum any all enumerate zip min max".split())
+KEYWORDS = {
+    "sorted": ("key", "reverse"), "min": ("key", "default"), "max": ("key", "default"),
+    "sum": ("start",), "enumerate": ("start",), "zip": ("strict",),
+}
 
 NODES = (
     ast.Module, ast.ImportFrom, ast.alias, ast.FunctionDef, ast.Lambda, ast.arguments, ast.arg, ast.ClassDef,
@@ -61,6 +65,7 @@ def complaints(files):
     for name, text in files.items():
         told = of_text(name, text) + of_top(trees[name]) + of_imports(trees[name], trees)
         told += of_locals(trees[name]) + of_walked(trees[name]) + of_sets(trees[name])
+        told += of_tables(trees[name]) + of_handed(trees[name], methods) + of_keywords(trees[name])
         for node in ast.walk(trees[name]):
             told += of_node(node, methods)
         found += [f"{name}: {line}" for line in told]
@@ -219,6 +224,60 @@ def of_sets(tree):
     ]
 
 
+def of_tables(tree):
+    """L15: a list or dict of a file's top holds none itself, and is only read."""
+    tops = [node for node in tree.body if isinstance(node, ast.Assign) and isinstance(node.value, (ast.List, ast.Dict))]
+    told = [
+        f"L15: line {part.lineno} list or dict within another" for node in tops for part in ast.walk(node.value)
+        if part is not node.value and isinstance(part, (ast.List, ast.Dict))
+    ]
+    names = {node.targets[0].id for node in tops if isinstance(node.targets[0], ast.Name)}
+    read = set()
+    for node in ast.walk(tree):
+        if isinstance(node, ast.Subscript) and isinstance(node.ctx, ast.Load):
+            read.add(node.value)
+        elif isinstance(node, (ast.For, ast.comprehension)):
+            read.add(node.iter)
+        elif isinstance(node, ast.Compare):
+            read |= {node.left, *node.comparators}
+        elif called(node) in WALKERS | {"len", "reversed"}:
+            read |= set(node.args)
+        elif isinstance(node, ast.Attribute) and node.attr in WALKED_METHODS | {"get", "count", "index", "copy"}:
+            read.add(node.value)
+    return told + [
+        f"L15: line {node.lineno} {node.id}" for node in ast.walk(tree)
+        if isinstance(node, ast.Name) and isinstance(node.ctx, ast.Load) and node.id in names and node not in read
+    ]
+
+
+def of_handed(tree, methods):
+    """L22, L25: methods and Python's own are called where they stand, never handed on (but as a key)."""
+    calls = [node for node in ast.walk(tree) if isinstance(node, ast.Call)]
+    used = {node.func for node in calls}
+    used |= {word.value for node in calls for word in node.keywords if word.arg == "key"}
+    used |= {part for node in calls if called(node) == "isinstance" for part in ast.walk(node)}
+    told = []
+    for node in ast.walk(tree):
+        if isinstance(node, ast.Attribute) and isinstance(node.ctx, ast.Load) and node not in used:
+            if node.attr in methods - FREE_VALUES:
+                told.append(f"L25: line {node.lineno} {node.attr}")
+        elif isinstance(node, ast.Name) and node.id in BUILTINS and node.id[0].islower() and node not in used:
+            told.append(f"L22: line {node.lineno} {node.id}")
+    return told
+
+
+def of_keywords(tree):
+    """L22: which keywords stand at calls of Python's own."""
+    told = []
+    for node in ast.walk(tree):
+        if not isinstance(node, ast.Call):
+            continue
+        at_own = called(node) in BUILTINS or isinstance(node.func, ast.Attribute) and node.func.attr in METHODS
+        free = KEYWORDS.get(called(node), ())
+        told += [f"L22: line {node.lineno} {word.arg}" for word in node.keywords if at_own and word.arg not in free]
+    return told
+
+
 def of_node(node, methods):
     line = f"line {getattr(node, 'lineno', 0)}"
     if not isinstance(node, NODES):
@@ -284,6 +343,9 @@ def of_rest(node, line):
     elif isinstance(node, (ast.Assign, ast.For, ast.While)):
         if len(getattr(node, "targets", [1])) > 1 or getattr(node, "orelse", []):
             told.append(f"L6: {line}")
+        # Several names on the left may count as several targets, so none are used.
+        if isinstance(node, ast.Assign) and isinstance(node.targets[0], (ast.Tuple, ast.List)):
+            told.append(f"L6: {line} targets")
     elif isinstance(node, ast.Try):
         if node.finalbody:
             told.append(f"L6: {line} finally")
@@ -298,6 +360,9 @@ def of_rest(node, line):
         told += of_compare(node, line)
     elif isinstance(node, (ast.BinOp, ast.AugAssign)):
         told += of_sum(node, line)
+    elif isinstance(node, ast.FormattedValue):
+        if not isinstance(node.value, ast.Name) or node.format_spec or node.conversion not in (-1, ord("r")):
+            told.append(f"L7: {line} f-string")
     elif isinstance(node, ast.comprehension):
         if len(node.ifs) > 1:
             told.append("L7: comprehension")
